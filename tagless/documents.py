@@ -57,6 +57,22 @@ def is_document(value):
     return all([sort_of(part) is not None for part in parts_of(value)])
 
 
+def copied(document):
+    """A new document that is the same, which has no list and no dict in common with the document."""
+    parts = parts_of(document)
+    made = list(parts)
+    # Inner parts stand in the sequence of what they are in, so those of the last part end the list.
+    end = len(parts)
+    for at in reversed(range(len(parts))):
+        start = end - len(inner_parts(parts[at]))
+        if isinstance(parts[at], list):
+            made[at] = made[start:end]
+        elif isinstance(parts[at], dict):
+            made[at] = dict(zip(list(parts[at]), made[start:end]))
+        end = start
+    return made[0]
+
+
 def alike(one, other):
     """Whether two documents are the same as far as it can be told without their inner parts."""
     sort = sort_of(one)

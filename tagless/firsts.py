@@ -109,10 +109,9 @@ def eithers_in_turn(forms):
     return told
 
 
-def first_readings(forms, document):
-    """A dict from the name of each kind that a document fits to its first reading by it."""
+def firsts_of_parts(forms, parts):
+    """For each of the parts of a document, as parts_of has them, a dict from each kind it fits to its first reading."""
     eithers = eithers_in_turn(forms)
-    parts = parts_of(document)
     firsts = [{} for _ in parts]
     # Inner parts stand in the sequence of what they are in, so those of the last part end the list.
     end = len(parts)
@@ -120,4 +119,17 @@ def first_readings(forms, document):
         start = end - len(inner_parts(parts[at]))
         firsts[at] = part_firsts(forms, eithers, parts[at], firsts[start:end])
         end = start
-    return firsts[0]
+    return firsts
+
+
+def first_readings(forms, document):
+    """A dict from the name of each kind that a document fits to its first reading by it."""
+    return firsts_of_parts(forms, parts_of(document))[0]
+
+
+def closed_forms(forms):
+    """The forms with every record closed: what fits them are the written forms of the kinds."""
+    closed = {}
+    for name, form in forms.items():
+        closed[name] = ("record", False, form[2]) if form[0] == "record" else form
+    return closed
