@@ -5,8 +5,8 @@ fits: the lot of what it is passed on as by this kind, and whether this is read 
 is. If passing on is not asked for, each lot in it is () and each stands is True.
 
 The sign of a string tells for which lines of tagged kinds it is the word: rows (name of the
-tagged kind, K), ascending; that of all else is (). Two documents with the same mark and sign
-can stand for one another in lists and records.
+tagged kind, first kind with the form of K), ascending; that of all else is (). Two documents with
+the same mark and sign can stand for one another in lists and records.
 """
 
 from tagless.documents import sort_of
@@ -17,7 +17,7 @@ LONG = 5
 
 
 class Row:
-    """A record kind, or the lines of a tagged kind with one K, as what fits it is asked for by fields."""
+    """A record kind, or the lines of a tagged kind with the same records, as what fits it is asked for by fields."""
 
     def __init__(self, own, record, form, tag):
         self.own = own
@@ -48,6 +48,11 @@ class Plan:
         self.asked = field_names(forms)
 
 
+def first_like(forms, record):
+    """The first kind with the same form as a record: one stands for all that are alike."""
+    return [name for name in forms if forms[name] == forms[record]][0]
+
+
 def rows_of(forms):
     """The Rows of the record kinds and of the tagged kinds."""
     rows = []
@@ -55,7 +60,7 @@ def rows_of(forms):
         if form[0] == "record":
             rows.append(Row(name, "", form, ""))
         if form[0] == "tagged":
-            for kind in sorted({line[1] for line in form[2]}):
+            for kind in sorted({first_like(forms, line[1]) for line in form[2]}):
                 rows.append(Row(name, kind, forms[kind], form[1]))
     return rows
 
@@ -123,7 +128,7 @@ def sign_of(plan, leaf):
     told = []
     for name, form in plan.table.items():
         if form[0] == "tagged" and sort_of(leaf) == "text":
-            told.extend([(name, kind) for word, kind in form[2] if word == leaf])
+            told.extend([(name, first_like(plan.table, kind)) for word, kind in form[2] if word == leaf])
     return tuple(sorted(told))
 
 

@@ -242,3 +242,374 @@ def named(form):
 
 def rows(forms):
     return tuple(forms.items())
+
+
+# Evidence, as the sections 7 to 12 tell what is right by itself.
+
+ALL = (0, "", "any", "")
+
+
+def ints(*values):
+    return all(type(value) is int for value in values)
+
+
+def is_tuple(value, many=None):
+    return type(value) is tuple and (many is None or len(value) == many)
+
+
+def is_side(forms, value):
+    if not is_tuple(value, 4) or type(value[0]) is not int or [type(word) for word in value[1:]] != [str] * 3:
+        return False
+    number, name, how, word = value
+    if value == ALL:
+        return True
+    if number != 0 or name not in forms or how not in ("any", "written"):
+        return False
+    return word == "" or forms[name][0] == "tagged" and word in [row[0] for row in forms[name][2]]
+
+
+def all_sides(forms):
+    sides = [ALL]
+    for name, form in forms.items():
+        for how in ("any", "written"):
+            sides.append((0, name, how, ""))
+            if form[0] == "tagged":
+                sides.extend((0, name, how, word) for word, _ in form[2])
+    return sides
+
+
+def pair(one, other):
+    return tuple(sorted((one, other)))
+
+
+def union_parts(forms, side):
+    """The parts of a union, None of what is none."""
+    if side == ALL:
+        return None
+    _, name, how, word = side
+    form = forms[name]
+    if form[0] == "either":
+        return [(0, member, how, "") for member in form[1]]
+    if form[0] == "tagged" and word == "":
+        return [(0, name, how, line[0]) for line in form[2]]
+    return None
+
+
+def record_of(forms, side):
+    """(fields with a side and whether they are wanted, lets extras, FIELD, word) of a record or a line."""
+    _, name, how, word = side
+    form = forms[name]
+    record, field = (forms[dict(form[2])[word]], form[1]) if word else (form, "")
+    lines = {row[0]: ((0, row[1], how, ""), row[2]) for row in record[2]}
+    return lines, record[1] and how == "any", field, word
+
+
+def sort_of_side(forms, side):
+    sort = forms[side[1]][0]
+    return {"word": "text", "tagged": "record"}.get(sort, sort)
+
+
+def apart_by(forms, two, known):
+    """Whether a pair is apart by the pairs that are known."""
+    one, other = two
+    unions = [(union_parts(forms, side), against) for side, against in ((one, other), (other, one))]
+    if any(parts is not None for parts, _ in unions):
+        return any(all(pair(part, against) in known for part in parts) for parts, against in unions if parts is not None)
+    if one == ALL and other == ALL:
+        return False
+    if ALL in two:
+        return beside_all(forms, other if one == ALL else one, known)
+    sorts = [sort_of_side(forms, side) for side in two]
+    if sorts[0] != sorts[1]:
+        return True
+    first, second = forms[one[1]], forms[other[1]]
+    if sorts[0] == "int":
+        return first[2] < second[1] or second[2] < first[1]
+    if sorts[0] == "text":
+        return first[0] == second[0] == "word" and not set(first[1]) & set(second[1])
+    if sorts[0] == "list":
+        return lists_apart(one, other, first, second, known)
+    if sorts[0] == "record":
+        return records_apart(forms, one, other, known) or records_apart(forms, other, one, known)
+    return False
+
+
+def beside_all(forms, side, known):
+    if sort_of_side(forms, side) == "list":
+        _, item, low, _ = forms[side[1]]
+        return low > 0 and pair((0, item, side[2], ""), ALL) in known
+    if sort_of_side(forms, side) == "record":
+        lines, _, _, _ = record_of(forms, side)
+        return any(pair(inner, ALL) in known for inner, wanted in lines.values() if wanted)
+    return False
+
+
+def lists_apart(one, other, first, second, known):
+    lengths = [set(range(form[2], 9 if form[3] is None else form[3] + 1)) for form in (first, second)]
+    if not lengths[0] & lengths[1]:
+        return True
+    items = pair((0, first[1], one[2], ""), (0, second[1], other[2], ""))
+    return (first[2] > 0 or second[2] > 0) and items in known
+
+
+def records_apart(forms, one, other, known):
+    """Whether the first one wants what the other one has not, or not so."""
+    lines, _, field, word = record_of(forms, one)
+    others, lets, other_field, other_word = record_of(forms, other)
+    if field:
+        if field == other_field:
+            if word != other_word:
+                return True
+        elif field in others:
+            if not fits(forms, others[field][0][1], word):
+                return True
+        elif not lets:
+            return True
+    for name, (side, wanted) in lines.items():
+        if wanted and name != other_field:
+            if name in others:
+                if pair(side, others[name][0]) in known:
+                    return True
+            elif not lets or pair(side, ALL) in known:
+                return True
+    return False
+
+
+def is_closed(forms, value):
+    if not is_tuple(value) or not all(is_tuple(two, 2) and all(is_side(forms, side) for side in two) for two in value):
+        return False
+    if not all(two[0] <= two[1] for two in value) or list(value) != sorted(set(value)):
+        return False
+    known = set(value)
+    return all(apart_by(forms, two, known) for two in value)
+
+
+def inner_kinds(form):
+    if form[0] == "list" and form[3] == 0:
+        return []
+    return named(form)
+
+
+def all_round(forms, kind, names, pairs):
+    if not is_tuple(names) or not all(type(name) is str and name in forms for name in names):
+        return False
+    if list(names) != sorted(set(names)):
+        return False
+    empty = {name for name in forms if pair((0, name, "any", ""), ALL) in pairs}
+    if kind not in names and kind not in empty:
+        return False
+    return all(inner in names or inner in empty for name in names for inner in inner_kinds(forms[name]))
+
+
+def no_split(forms, kind, value, how):
+    """Whether names and pairs show that the eithers all round a kind have members that are apart."""
+    names, pairs = value
+    if not is_closed(forms, pairs) or not all_round(forms, kind, names, pairs):
+        return False
+    for name in names:
+        if forms[name][0] == "either":
+            for one, later in itertools.combinations(forms[name][1], 2):
+                if pair((0, one, "any", ""), (0, later, how, "")) not in pairs:
+                    return False
+    return True
+
+
+def shows_meet(forms, one, other, value):
+    if not is_tuple(value, 2) or type(value[0]) is not str:
+        return False
+    if value[0] == "meet":
+        return is_document(value[1]) and of_side(forms, one, value[1]) and of_side(forms, other, value[1])
+    return value[0] == "apart" and is_closed(forms, value[1]) and pair(one, other) in value[1]
+
+
+def shows_single(forms, kind, value):
+    if is_tuple(value, 3) and same(value[0], "one"):
+        return no_split(forms, kind, value[1:], "any")
+    if not is_tuple(value, 2) or not same(value[0], "two") or not is_document(value[1]):
+        return False
+    return len(all_readings(forms, kind, value[1])) > 1
+
+
+def is_reading(forms, value):
+    """By the words: whether it is one of the readings of what would be written for it."""
+    try:
+        document = written(forms, value)
+    except (KeyError, TypeError, IndexError, ValueError, AttributeError):
+        return False
+    return is_document(document) and any(same(value, told) for told in all_readings(forms, value[0], document))
+
+
+def shows_back(forms, kind, value):
+    if is_tuple(value, 3) and same(value[0], "back"):
+        return no_split(forms, kind, value[1:], "written")
+    if not is_tuple(value, 2) or not same(value[0], "lost") or not is_reading(forms, value[1]):
+        return False
+    return value[1][0] == kind and lost(forms, value[1])
+
+
+def safe_sequences(many, musts):
+    return [row for row in itertools.permutations(range(many))
+            if all(row.index(j) < row.index(i) for j, i in musts)]
+
+
+def is_must(forms, members, row):
+    if not is_tuple(row, 3) or not ints(*row[:2]) or row[0] == row[1] or not is_document(row[2]):
+        return False
+    if not all(0 <= number < len(members) for number in row[:2]):
+        return False
+    return fits(closed(forms), members[row[0]], row[2]) and fits(forms, members[row[1]], row[2])
+
+
+def shows_orders(forms, kind, value):
+    members = forms[kind][1]
+    if is_tuple(value, 2) and same(value[0], "ring"):
+        rows = value[1]
+        if not is_tuple(rows) or len(rows) < 2 or not all(is_must(forms, members, row) for row in rows):
+            return False
+        ahead = [row[0] for row in rows]
+        return len(set(ahead)) == len(ahead) and all(rows[at - 1][1] == rows[at][0] for at in range(len(rows)))
+    if not is_tuple(value, 5) or not same(value[0], "safe"):
+        return False
+    _, numbers, many, rows, pairs = value
+    if not is_tuple(rows) or not all(is_must(forms, members, row) for row in rows) or not is_closed(forms, pairs):
+        return False
+    musts = [row[:2] for row in rows]
+    if musts != sorted(set(musts)):
+        return False
+    for j, i in itertools.permutations(range(len(members)), 2):
+        if (j, i) not in musts and pair((0, members[j], "written", ""), (0, members[i], "any", "")) not in pairs:
+            return False
+    safe = safe_sequences(len(members), musts)
+    return len(safe) > 0 and same(numbers, safe[0]) and same(many, len(safe))
+
+
+def shows_rows(value, right, told):
+    """Whether a value is a row for each of these lots, or ways, each with a document of which it is told."""
+    if not is_tuple(value) or len(value) != len(right):
+        return False
+    if not all(is_tuple(row, 2) and is_document(row[1]) for row in value):
+        return False
+    return all(same(row[0], mark) and told(row[1]) == mark for row, mark in zip(value, right))
+
+
+def shows_within(forms, one, other, value, right):
+    if not is_tuple(value, 2) or type(value[0]) is not str:
+        return False
+    if value[0] == "not":
+        return is_document(value[1]) and fits(forms, one, value[1]) and not fits(forms, other, value[1])
+    if value[0] != "within" or any(one in told and other not in told for told in right):
+        return False
+    return shows_rows(value[1], right, lambda document: lot(forms, document))
+
+
+def turns(told, kind):
+    return any(row[0] == kind and row[2] is False for row in told)
+
+
+def shows_steady(forms, kind, value, right):
+    if not is_tuple(value, 2) or type(value[0]) is not str:
+        return False
+    if value[0] == "turns":
+        return is_document(value[1]) and turns(way(forms, value[1]), kind)
+    if value[0] != "steady" or any(turns(told, kind) for told in right):
+        return False
+    return shows_rows(value[1], right, lambda document: way(forms, document))
+
+
+def faults(forms, name, document):
+    """All faults of a document that does not fit a kind, none of one that fits."""
+    form = forms[name]
+    if fits(forms, name, document):
+        return []
+    if form[0] == "either":
+        return [("member", member, fault) for member in form[1] for fault in faults(forms, member, document)]
+    if form[0] == "list":
+        if type(document) is not list:
+            return [("value",)]
+        told = [("item", at, fault) for at, part in enumerate(document) for fault in faults(forms, form[1], part)]
+        wrong = len(document) < form[2] or form[3] is not None and len(document) > form[3]
+        return told + ([("length",)] if wrong else [])
+    if form[0] not in ("record", "tagged") or type(document) is not dict:
+        return [("value",)]
+    if form[0] == "tagged":
+        word = document.get(form[1])
+        if type(word) is not str or word not in dict(form[2]):
+            return [("tag",)]
+        rest = {field: part for field, part in document.items() if field != form[1]}
+        return faults(forms, dict(form[2])[word], rest)
+    lines = {row[0]: row[1] for row in form[2]}
+    told = [("lacks", row[0]) for row in form[2] if row[2] and row[0] not in document]
+    told += [("extra", field) for field in document if field not in lines and not form[1]]
+    return told + [("field", field, fault) for field in document if field in lines
+                   for fault in faults(forms, lines[field], document[field])]
+
+
+# Values with one thing otherwise.
+
+ODD = [None, True, False, 0, 1, 2, -1, "", "a", "any", "written", "x", "p", (), [], {}, (0,), ("a",), {"x": 1}]
+
+
+def places(value, at=()):
+    """The ways that lead to all parts of a value."""
+    told = [at]
+    if type(value) in (tuple, list):
+        for number, part in enumerate(value):
+            told += places(part, at + (number,))
+    if type(value) is dict:
+        for key, part in value.items():
+            told += places(part, at + (key,))
+    return told
+
+
+def part_at(value, at):
+    for step in at:
+        value = value[step]
+    return value
+
+
+def changed(value, at, part):
+    """The value with another part at this place."""
+    if not at:
+        return part
+    inner = changed(value[at[0]], at[1:], part)
+    if type(value) is dict:
+        return {key: inner if key == at[0] else old for key, old in value.items()}
+    return type(value)(inner if number == at[0] else old for number, old in enumerate(value))
+
+
+def otherwise(source, value):
+    """A value with one thing otherwise."""
+    ways = places(value)
+    at = source.choice(ways)
+    part = part_at(value, at)
+    choice = source.random()
+    if type(part) in (tuple, list) and choice < 0.6:
+        return changed(value, at, other_row(source, part))
+    if type(part) is bool and choice < 0.5:
+        return changed(value, at, int(part))
+    if type(part) is int and choice < 0.5:
+        return changed(value, at, bool(part) if part in (0, 1) else part + 1)
+    if type(part) is dict and part and choice < 0.5:
+        gone = source.choice(sorted(part))
+        return changed(value, at, {key: inner for key, inner in part.items() if key != gone})
+    if choice < 0.8:
+        return changed(value, at, part_at(value, source.choice(ways)))
+    return changed(value, at, source.choice(ODD))
+
+
+def other_row(source, part):
+    """A tuple or list with one thing otherwise in it as a row."""
+    row = list(part)
+    choice = source.randrange(5)
+    if choice == 0:
+        return row if type(part) is tuple else tuple(row)
+    if choice == 1 and row:
+        del row[source.randrange(len(row))]
+    elif choice == 2 and row:
+        row.insert(source.randrange(len(row) + 1), source.choice(row))
+    elif choice == 3 and len(row) > 1:
+        at = source.randrange(len(row) - 1)
+        row[at], row[at + 1] = row[at + 1], row[at]
+    else:
+        row.insert(source.randrange(len(row) + 1), source.choice(ODD))
+    return type(part)(row)
