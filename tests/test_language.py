@@ -2,6 +2,7 @@
 
 import ast
 import builtins
+import functools
 import pathlib
 import re
 import unittest
@@ -33,6 +34,7 @@ def sources():
     return sorted(PACKAGE.rglob("*.py"))
 
 
+@functools.cache
 def trees():
     return [(path, ast.parse(path.read_text("utf-8"))) for path in sources()]
 
@@ -153,6 +155,184 @@ class TestCode(unittest.TestCase):
                 told = isinstance(row, ast.Expr) and isinstance(row.value, ast.Constant)
                 self.assertTrue(told or isinstance(row, (ast.ImportFrom, ast.FunctionDef, ast.ClassDef, ast.Assign)),
                                 (path, row.lineno))
+
+
+
+METHODS = set("""append clear copy count endswith extend find get index insert isalnum isalpha isdigit islower isspace
+isupper items join keys ljust lower lstrip partition pop remove replace reverse rfind rjust rpartition rsplit rstrip
+setdefault split splitlines startswith strip update upper values zfill bit_length sort add discard title capitalize
+swapcase casefold center expandtabs removeprefix removesuffix rindex isascii isdecimal isnumeric istitle isidentifier
+isprintable""".split())
+
+CHANGING = set("append clear extend insert pop remove reverse setdefault update sort add discard".split())
+
+OPERATORS = set("""contains getitem setitem or and xor add sub mul floordiv mod pow lshift rshift radd rsub rrshift lt le
+gt ge ne neg pos invert abs bool eq len str repr""".split())
+
+AT_ONCE = {"list", "tuple", "dict", "sorted", "sum", "any", "all", "enumerate", "zip", "bytes", "min", "max", "join"}
+
+ITERATORS = {"zip", "enumerate", "reversed", "range", "items", "keys", "values"}
+
+
+def called(node):
+    """The name of what a call calls, or an empty string."""
+    if not isinstance(node, ast.Call):
+        return ""
+    return node.func.id if isinstance(node.func, ast.Name) else getattr(node.func, "attr", "")
+
+
+def parents(tree):
+    """Each node with the one that it stands in."""
+    return {inner: node for node in ast.walk(tree) for inner in ast.iter_child_nodes(node)}
+
+
+@functools.cache
+def functions():
+    return [(path, node) for path, node in nodes(ast.FunctionDef)]
+
+
+def assigned(function):
+    """The names of the parameters and local variables of a function."""
+    names = {row.arg for row in ast.walk(function.args) if isinstance(row, ast.arg)}
+    for node in ast.walk(function):
+        if isinstance(node, ast.Name) and not isinstance(node.ctx, ast.Load):
+            names.add(node.id)
+        if isinstance(node, ast.Lambda):
+            names |= {row.arg for row in ast.walk(node.args) if isinstance(row, ast.arg)}
+    return names
+
+
+@functools.cache
+def own_methods():
+    return {row.name for _, node in nodes(ast.ClassDef) for row in node.body if isinstance(row, ast.FunctionDef)}
+
+
+@functools.cache
+def properties():
+    return {row.name for _, node in nodes(ast.ClassDef) for row in node.body if isinstance(row, ast.FunctionDef)
+            and any(isinstance(sign, ast.Name) and sign.id == "property" for sign in row.decorator_list)}
+
+
+class TestNames(unittest.TestCase):
+
+    def test_no_variable_has_the_name_of_a_class_or_an_import(self):
+        for path, tree in trees():
+            known = {name.asname or name.name for node in ast.walk(tree) if isinstance(node, ast.ImportFrom)
+                     for name in node.names}
+            known |= {node.name for node in tree.body if isinstance(node, ast.ClassDef)}
+            for function in [node for node in ast.walk(tree) if isinstance(node, ast.FunctionDef)]:
+                self.assertEqual(assigned(function) & (known | set(dir(builtins))) - {"_"}, set(), (path, function.name))
+
+    def test_each_import_is_used(self):
+        for path, tree in trees():
+            used = {node.id for node in ast.walk(tree) if isinstance(node, ast.Name)}
+            for node in ast.walk(tree):
+                if isinstance(node, ast.ImportFrom):
+                    self.assertEqual({name.name for name in node.names} - used, set(), path)
+
+    def test_no_attribute_has_the_name_of_a_property(self):
+        for path, node in nodes(ast.Attribute):
+            if isinstance(node.ctx, ast.Store):
+                self.assertNotIn(node.attr, properties() | own_methods(), (path, node.lineno))
+        self.assertEqual(properties() & METHODS, set())
+
+    def test_no_other_function_has_the_name_of_a_generator(self):
+        generators = [node.name for _, node in functions()
+                      if any(isinstance(inner, (ast.Yield, ast.YieldFrom)) for inner in ast.walk(node))]
+        self.assertEqual(sorted(generators), ["passes", "readings"])
+        names = [node.name for _, node in functions()]
+        self.assertEqual([name for name in names if name in generators], generators)
+        for path, node in nodes(ast.Name, ast.Attribute):
+            self.assertNotIn(getattr(node, "id", getattr(node, "attr", None)), generators, (path, node.lineno))
+
+
+class TestCalls(unittest.TestCase):
+
+    def test_methods(self):
+        for path, node in nodes(ast.Call):
+            if isinstance(node.func, ast.Attribute):
+                self.assertIn(node.func.attr, METHODS | own_methods(), (path, node.lineno))
+                if node.func.attr not in own_methods():
+                    self.assertEqual(node.keywords, [], (path, node.lineno))
+
+    def test_what_is_iterated_at_once(self):
+        for path, tree in trees():
+            above = parents(tree)
+            for node in ast.walk(tree):
+                if called(node) in ITERATORS and not (called(node) in own_methods()):
+                    outer = above[node]
+                    right = isinstance(outer, (ast.For, ast.comprehension)) and outer.iter is node
+                    right = right or called(outer) in AT_ONCE and outer.args[0] is node
+                    right = right or called(outer) in {"reversed", "len"} and called(node) == "range"
+                    self.assertTrue(right, (path, node.lineno))
+
+    def test_sets(self):
+        for path, tree in trees():
+            above = parents(tree)
+            for node in ast.walk(tree):
+                if isinstance(node, (ast.Set, ast.SetComp)) or called(node) == "set":
+                    outer = above[node]
+                    right = called(outer) in {"sorted", "len"} or isinstance(outer, ast.Compare) and node in outer.comparators
+                    self.assertTrue(right, (path, node.lineno))
+
+    def test_library(self):
+        for path, node in nodes(ast.ImportFrom):
+            if node.module in LIBRARY:
+                self.assertLessEqual({name.name for name in node.names},
+                                     {"heappush", "heappop", "heapify", "gcd", "product", "combinations", "permutations"})
+
+
+class TestOperators(unittest.TestCase):
+    """What an operator or a property runs changes nothing but lists and dicts that it made itself."""
+
+    def reached(self):
+        """All functions that operators and properties run, by their names."""
+        known = {}
+        for _, node in functions():
+            known.setdefault(node.name, []).append(node)
+        for _, node in nodes(ast.ClassDef):
+            known.setdefault(node.name, []).extend(row for row in node.body if getattr(row, "name", "") == "__init__")
+        waiting = [node for name in known for node in known[name]
+                   if name in properties() or name.strip("_") in OPERATORS and name.startswith("__")]
+        found = []
+        while waiting:
+            function = waiting.pop()
+            if function not in found:
+                found.append(function)
+                for node in ast.walk(function):
+                    waiting.extend(known.get(called(node), []))
+        return found
+
+    def made(self, function):
+        """The local names that are assigned a new list or dict, and nothing else."""
+        told = {}
+        for node in ast.walk(function):
+            if isinstance(node, ast.Assign):
+                for target in node.targets:
+                    if isinstance(target, ast.Name):
+                        new = isinstance(node.value, (ast.List, ast.Dict, ast.ListComp)) \
+                            or called(node.value) in {"list", "dict", "sorted"}
+                        told[target.id] = told.get(target.id, True) and new
+        return {name for name in told if told[name]}
+
+    def test_nothing_is_changed(self):
+        found = self.reached()
+        self.assertGreater(len(found), 40)
+        for function in found:
+            made = self.made(function)
+            for node in ast.walk(function):
+                place = (function.name, getattr(node, "lineno", 0))
+                if isinstance(node, (ast.Subscript, ast.Attribute)) and not isinstance(node.ctx, ast.Load):
+                    name = getattr(node.value, "id", None)
+                    self.assertTrue(name in made or name == "self" and function.name == "__init__", place)
+                if isinstance(node, ast.Call) and isinstance(node.func, ast.Attribute) and node.func.attr in CHANGING:
+                    self.assertIn(getattr(node.func.value, "id", None), made, place)
+                if isinstance(node, ast.AugAssign):
+                    self.assertIsInstance(node.value, ast.Constant, place)
+                self.assertNotIsInstance(node, (ast.Yield, ast.Global, ast.Nonlocal))
+                parameters = {row.arg for row in ast.walk(function.args) if isinstance(row, ast.arg)}
+                if isinstance(node, ast.Call) and isinstance(node.func, ast.Name) and node.func.id != "cls":
+                    self.assertNotIn(node.func.id, parameters, place)
 
 
 if __name__ == "__main__":

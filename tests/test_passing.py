@@ -203,7 +203,7 @@ class TestWays(Asking):
         for many, right in ((4, 81 + 81 + 2), (5, None)):
             lines = [f"record q{field} open\n  {field} w" for field in FIELDS[:many]]
             book = Book("\n".join([text] + lines))
-            self.assertLess(len(lots(book)), 50)
+            self.assertLess(len(lots(book)), 100)
             if right is None:
                 self.refused(TooMany, 200, ways, book)
                 self.refused(TooMany, 200, steady, book, "n")
