@@ -42,16 +42,11 @@ def are_lots(forms, nodes, value):
     if not isinstance(value, tuple) or len(value) != len(nodes):
         return False
     for row, told in zip(value, nodes):
-        if not isinstance(row, tuple) or len(row) != 2 or not is_lot(row[0]) or row[0] != told:
+        if not isinstance(row, tuple) or len(row) != 2 or not isinstance(row[0], tuple) or row[0] != told:
             return False
         if not is_document(row[1]) or lot_of(forms, row[1]) != told:
             return False
     return True
-
-
-def is_lot(value):
-    """Whether any value is a tuple of strings."""
-    return isinstance(value, tuple) and all([isinstance(name, str) for name in value])
 
 
 def nodes_or_none(forms):

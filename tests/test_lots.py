@@ -287,6 +287,16 @@ class TestShows(Asking):
             self.assertIs(shows_lots(BOOK, value), False, value)
             self.assertIs(shows_within(BOOK, "a", "u", ("within", value)), False, value)
 
+    def test_what_is_no_document_within_extras(self):
+        told = lots(BOOK)
+        at = [row[0] for row in told].index(("b", "u"))
+        for document, right in (({"x": 1, "z": [1]}, True), ({"x": 1, "z": [(1,)]}, False), ({"x": 1, "Z": 1}, False),
+                                ({"x": 1, 5: 1}, False)):
+            value = told[:at] + ((told[at][0], document),) + told[at + 1:]
+            self.assertIs(shows_lots(BOOK, value), right)
+            self.assertIs(shows_within(BOOK, "a", "b", ("within", value)), right)
+            self.assertIs(shows_within(BOOK, "b", "a", ("not", document)), right)
+
     def test_one_thing_otherwise(self):
         source = random.Random(113)
         seen = {True: 0, False: 0}

@@ -219,12 +219,53 @@ class TestShows(Asking):
         mixed = tuple(sorted(inner + [plainly.pair(n, v), plainly.pair(t, u), (u, v)]))
         self.assertIs(shows_meet(book, u, v, ("apart", mixed)), False)
 
+    def test_pairs_of_lists(self):
+        book = Book("none n\nbool m\nlist a n 0 2\nlist b m 0 2\nlist c m 1 2\nlist d n 3 *\nlist e m 2 2")
+        n, m, a, b, c, d, e = [side(name) for name in "nmabcde"]
+        rows = [(((a, b), (m, n)), False), (((a, c), (m, n)), True), (((a, c),), False), (((a, d),), True), (((c, d), (m, n)), True),
+                (((c, d),), True), (((c, e), (m, m)), False), (((a, e), (m, n)), True), (((b, e), (m, n)), False),
+                (((ALL, c), (ALL, m)), False), (((a, n),), True), (((ALL, a),), False)]
+        for pairs, right in rows:
+            pairs = tuple(sorted(plainly.pair(*two) for two in pairs))
+            for one, other in pairs[:1]:
+                self.assertIs(shows_meet(book, one, other, ("apart", pairs)), right, pairs)
+
+    def test_each_pair_beside_all_others_that_are_apart(self):
+        source = random.Random(73)
+        seen = {True: 0, False: 0}
+        for _ in range(25):
+            forms = plainly.some_forms(source)
+            # Kinds without documents, and what hangs on them.
+            forms["e"] = ("record", False, (("x", "e", True),))
+            forms["f"] = ("record", source.random() < 0.5, (("y", source.choice("en"), source.random() < 0.7),))
+            forms["h"] = ("list", source.choice("ef"), source.choice((0, 1)), None)
+            book = book_of(forms)
+            pairs = sorted({plainly.pair(one, other) for one in plainly.all_sides(forms) for other in plainly.all_sides(forms)})
+            known = set(pairs)
+            while True:
+                kept = {pair for pair in known if plainly.apart_by(forms, pair, known)}
+                if len(kept) == len(known):
+                    break
+                known = kept
+            for one, other in source.sample(pairs, min(len(pairs), 60)):
+                self.assertEqual(meet(book, one, other)[0], "apart" if (one, other) in known else "meet")
+                further = tuple(sorted(known | {(one, other)}))
+                right = (one, other) in known
+                self.assertIs(shows_meet(book, one, other, ("apart", further)), right)
+                seen[right] += 1
+                fewer = tuple(pair for pair in further if pair == (one, other) or source.random() < 0.8)
+                self.assertIs(shows_meet(book, one, other, ("apart", fewer)), plainly.is_closed(forms, fewer))
+        self.assertGreater(min(seen.values()), 250)
+
     def test_documents_that_do_not_do(self):
         for document in (None, {}, {"x": 10}, {"x": True}, {"x": 0, "y": ""}, [{"x": 0}], {"x": (0,)}, {"X": 0}):
             self.assertIs(shows_meet(BOOK, A, B, ("meet", document)), False)
         for document in ({"x": 9}, {"x": 0}):
             self.assertIs(shows_meet(BOOK, A, B, ("meet", document)), True)
         self.assertIs(shows_meet(BOOK, B, ALL, ("meet", {"x": 1, "q": []})), True)
+        for extras in ({"q": ()}, {"Q": 1}, {"q": [(1,)]}, {1: 1}):
+            self.assertIs(shows_meet(BOOK, B, ALL, ("meet", dict(extras, x=1))), False)
+        self.assertIs(shows_meet(BOOK, ALL, ALL, ("meet", ())), False)
         self.assertIs(shows_meet(BOOK, side("b", "written"), ALL, ("meet", {"x": 1, "q": []})), False)
 
     def test_one_thing_otherwise(self):

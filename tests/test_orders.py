@@ -253,6 +253,11 @@ class TestShows(Asking):
                  (numbers, many, ((1, 0, {"x": 0, "y": 0, "z": 0}),), pairs), ((1, 0, 0), many, musts, pairs)]
         for row in wrong:
             self.assertIs(shows_orders(WIDE_BOOK, "u", ("safe",) + row), False, row)
+        book = Book("none n\nrecord a open\nrecord b\n  x r ?\nrecord r open\neither u b a")
+        written = Book(book.text.replace("record r open", "record r"))
+        self.assertEqual(orders(written, "u")[0], "ring")
+        self.assertIs(shows_orders(book, "u", ("ring", ((0, 1, {"x": {"z": 1}}), (1, 0, {})))), False)
+        self.assertIs(shows_orders(book, "u", ("ring", ((0, 1, {"x": {}}), (1, 0, {})))), True)
         right = [(numbers, many, ((1, 0, {"x": 9, "y": 3}),), pairs),
                  (numbers, many, musts, tuple(sorted(pairs + (((0, "a", "any", ""), (0, "n", "any", "")),))))]
         for row in right:

@@ -388,6 +388,18 @@ class TestShows(Asking):
             self.assertIs(shows_steady(BOOK, "b", ("steady", value)), right, other)
             self.assertIs(shows_steady(BOOK, "u", ("steady", value)), False)
 
+    def test_what_is_no_document_within_extras(self):
+        told = ways(BOOK)
+        at = [tuple(name for name, _, _ in row[0]) for row in told].index(("b", "u"))
+        mark = told[at][0]
+        self.assertIs(mark[1][2], False)
+        for document, right in (({"x": 1, "z": [1]}, True), ({"x": 1, "z": [(1,)]}, False), ({"x": 1, "Z": 1}, False),
+                                ({"x": 1, 5: 1}, False)):
+            value = told[:at] + ((mark, document),) + told[at + 1:]
+            self.assertIs(shows_ways(BOOK, value), right)
+            self.assertIs(shows_steady(BOOK, "b", ("steady", value)), right)
+            self.assertIs(shows_steady(BOOK, "u", ("turns", document)), right)
+
     def test_one_thing_otherwise(self):
         source = random.Random(126)
         seen = {True: 0, False: 0}

@@ -134,6 +134,9 @@ class TestShows(Asking):
                                 ({"x": 0, "z": 0}, False), ({"x": (0,)}, False), (None, False)):
             self.assertIs(shows_single(BOOK, "u", ("two", document)), right)
             self.assertIs(shows_single(BOOK, "g", ("two", document)), False)
+        book = Book("none n\nrecord a open\nrecord b open\n  x n ?\neither u a b")
+        for document, right in (({"z": 1}, True), ({"z": (1,)}, False), ({"Z": 1}, False), ({"z": {1: 1}}, False)):
+            self.assertIs(shows_single(book, "u", ("two", document)), right)
 
     def test_one_thing_otherwise(self):
         source = random.Random(82)
