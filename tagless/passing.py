@@ -62,17 +62,10 @@ def ways(book):
 
 
 def is_way(value):
-    """Whether any value is a tuple of rows (string, tuple of strings, truth)."""
+    """Whether any value is a tuple of rows of three, the last of which is a bool: True is not 1."""
     if not isinstance(value, tuple):
         return False
-    for row in value:
-        if not isinstance(row, tuple) or len(row) != 3 or not isinstance(row[0], str):
-            return False
-        if not isinstance(row[1], tuple) or not isinstance(row[2], bool):
-            return False
-        if not all([isinstance(name, str) for name in row[1]]):
-            return False
-    return True
+    return all([isinstance(row, tuple) and len(row) == 3 and isinstance(row[2], bool) for row in value])
 
 
 def are_ways(forms, marks, value):

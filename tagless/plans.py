@@ -9,7 +9,6 @@ tagged kind, first kind with the form of K), ascending; that of all else is (). 
 the same mark and sign can stand for one another in lists and records.
 """
 
-from tagless.documents import sort_of
 from tagless.firsts import eithers_in_turn, fits_plain
 
 # Lists that are longer than any number in a line of a list kind are alike.
@@ -127,7 +126,7 @@ def sign_of(plan, leaf):
     """The sign of a document that is no list and no record."""
     told = []
     for name, form in plan.table.items():
-        if form[0] == "tagged" and sort_of(leaf) == "text":
+        if form[0] == "tagged":
             told.extend([(name, first_like(plan.table, kind)) for word, kind in form[2] if word == leaf])
     return tuple(sorted(told))
 
