@@ -10,7 +10,7 @@ from tagless.writing import document_of, is_any_reading, same_readings
 def is_lost(forms, reading):
     """Whether a reading, written, is read otherwise by its kind."""
     firsts = first_readings(forms, document_of(forms, reading))
-    return not same_readings(forms, firsts[reading[0]], reading)
+    return not same_readings(firsts[reading[0]], reading)
 
 
 def lost_reading(forms, kind, document):

@@ -40,7 +40,7 @@ def way_of(forms, document):
     rows = []
     for name in sorted(firsts):
         again = first_readings(forms, document_of(forms, firsts[name]))
-        rows.append((name, tuple(sorted(again)), same_readings(forms, firsts[name], again[name])))
+        rows.append((name, tuple(sorted(again)), same_readings(firsts[name], again[name])))
     return tuple(rows)
 
 

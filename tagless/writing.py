@@ -3,8 +3,6 @@
 from tagless.documents import sort_of
 from tagless.firsts import fits_plain
 
-PLAIN = ("none", "bool", "text", "int", "word")
-
 
 def is_list_reading(form, value):
     """Whether any value stands for the members of a list of the right length."""
@@ -108,26 +106,16 @@ def document_of(forms, reading):
     return made[0]
 
 
-def same_readings(forms, one, other):
-    """Whether two readings by kinds of a book are the same: True is not 1."""
+def same_readings(one, other):
+    """Whether two readings, by kinds of any books, are the same: True is not 1."""
+    # Documents that are no tuples stand at the ends of readings, and so do the names of kinds, fields and members.
     pairs = [(one, other)]
     while pairs:
         left, right = pairs.pop()
-        if left[0] != right[0]:
-            return False
-        form = forms[left[0]]
-        if form[0] in PLAIN:
-            if sort_of(left[1]) != sort_of(right[1]) or left[1] != right[1]:
+        if isinstance(left, tuple) and isinstance(right, tuple):
+            if len(left) != len(right):
                 return False
-        elif form[0] in ("either", "tagged"):
-            if left[1] != right[1]:
-                return False
-            pairs.append((left[2], right[2]))
-        elif form[0] == "record" and [row[0] for row in left[1]] != [row[0] for row in right[1]]:
+            pairs.extend(list(zip(left, right)))
+        elif sort_of(left) != sort_of(right) or left != right:
             return False
-        elif len(left[1]) != len(right[1]):
-            return False
-        else:
-            inner = [row for _, row in inner_readings(forms, left)]
-            pairs.extend(list(zip(inner, [row for _, row in inner_readings(forms, right)])))
     return True

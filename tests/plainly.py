@@ -544,6 +544,276 @@ def faults(forms, name, document):
                    for fault in faults(forms, lines[field], document[field])]
 
 
+# Lines, growth, drafts and repairs.
+
+def fallen(forms, reading, document, at=()):
+    """The paths of the extras of a document by a reading, which are in no other extra."""
+    form = forms[reading[0]]
+    if form[0] == "list":
+        return [path for number, told in enumerate(reading[1])
+                for path in fallen(forms, told, document[number], at + (number,))]
+    if form[0] == "either":
+        return fallen(forms, reading[2], document, at)
+    if form[0] == "tagged":
+        return fallen(forms, reading[2], {name: part for name, part in document.items() if name != form[1]}, at)
+    if form[0] != "record":
+        return []
+    lines = [row[0] for row in form[2]]
+    told = [at + (field,) for field in document if field not in lines]
+    return told + [path for field, inner in reading[1] for path in fallen(forms, inner, document[field], at + (field,))]
+
+
+def without(document, path):
+    """The document without what this path leads to."""
+    if len(path) == 1:
+        return {field: part for field, part in document.items() if field != path[0]}
+    return changed(document, path[:1], without(document[path[0]], path[1:]))
+
+
+def is_broken(elder, newer, reading):
+    """Whether the newer book does not read as it is what the elder one writes for a reading."""
+    document = written(elder, reading)
+    return reading[0] not in newer or not same(first(newer, reading[0], document), reading)
+
+
+NEWER = "~"
+
+
+def beside(elder, newer):
+    """One book of both: the names of the newer one are marked, and stand behind those of the elder one."""
+    return {**elder, **{NEWER + name: renamed(form) for name, form in newer.items()}}
+
+
+def renamed(form):
+    if form[0] == "list":
+        return ("list", NEWER + form[1]) + form[2:]
+    if form[0] == "either":
+        return ("either", tuple(NEWER + name for name in form[1]))
+    if form[0] == "record":
+        return form[:2] + (tuple((row[0], NEWER + row[1], row[2]) for row in form[2]),)
+    if form[0] == "tagged":
+        return form[:2] + (tuple((row[0], NEWER + row[1]) for row in form[2]),)
+    return form
+
+
+def in_both(side):
+    """A side of one of two books as a side of both; what is no such side stays none."""
+    if not is_tuple(side, 4) or type(side[0]) is not int or type(side[1]) is not str or side[1].startswith(NEWER):
+        return None
+    if side[0] == 1:
+        return (0, NEWER + side[1]) + side[2:]
+    return side
+
+
+def closed_in_both(elder, newer, value):
+    if not is_tuple(value) or not all(is_tuple(two, 2) for two in value):
+        return False
+    rows = tuple(tuple(in_both(side) for side in two) for two in value)
+    return all(None not in two for two in rows) and is_closed(beside(elder, newer), rows)
+
+
+def word_of_sort(form):
+    return form[0] if form[0] in ("list", "record", "either", "tagged") else "plain"
+
+
+def lengths(form, empty=False):
+    if empty:
+        return {0}
+    return set(range(form[2], 9 if form[3] is None else form[3] + 1))
+
+
+def kept_beside(elder, newer, name, empty, pairs):
+    """Whether a kind of the elder book is kept by the words of section 13, beside pairs and what is empty beside them."""
+    if name not in newer or word_of_sort(elder[name]) != word_of_sort(newer[name]):
+        return False
+    one, other = elder[name], newer[name]
+    if one[0] == "list":
+        if not lengths(one, one[1] in empty) <= lengths(other):
+            return False
+        return one[1] == other[1] or one[1] in empty or one[3] == 0
+    if one[0] == "record":
+        mine, yours = {row[0]: row for row in one[2]}, {row[0]: row for row in other[2]}
+        if any(mine[field][1] not in empty and (field not in yours or yours[field][1] != mine[field][1]) for field in mine):
+            return False
+        return all(field in mine and mine[field][2] for field in yours if yours[field][2])
+    if one[0] == "tagged":
+        return one[1] == other[1] and all(dict(other[2]).get(word) == kind for word, kind in one[2] if kind not in empty)
+    if one[0] == "either":
+        for member in one[1]:
+            if member not in empty:
+                if member not in other[1]:
+                    return False
+                for ahead in other[1][:other[1].index(member)]:
+                    if ((0, member, "written", ""), (1, ahead, "any", "")) not in pairs:
+                        return False
+        return True
+    return all(fits_plain(other, document) for document in leaves({"a": one, "b": other}) if fits_plain(one, document))
+
+
+def shows_keeps(elder, newer, value):
+    if not is_tuple(value, 2) or type(value[0]) is not str:
+        return False
+    if value[0] == "breaks":
+        return is_reading(elder, value[1]) and is_broken(elder, newer, value[1])
+    if value[0] != "keeps" or not closed_in_both(elder, newer, value[1]):
+        return False
+    empty = {name for name in elder if pair((0, name, "any", ""), ALL) in value[1]}
+    return all(kept_beside(elder, newer, name, empty, value[1]) for name in elder if name not in empty)
+
+
+def other_forms(source, forms):
+    """The forms of a book that has one thing, or two, otherwise: most of them are grown."""
+    told = dict(forms)
+    for _ in range(source.randint(1, 2)):
+        name = source.choice(sorted(told))
+        told[name] = other_form(source, told, name)
+    if source.random() < 0.1:
+        gone = source.choice(sorted(told))
+        told = mended({name: form for name, form in told.items() if name != gone})
+    return told
+
+
+def other_form(source, forms, name):
+    form = forms[name]
+    names = sorted(forms)
+    if form[0] == "int":
+        return ("int", form[1] - source.choice((0, 0, 1)), form[2] + source.choice((0, 1)))
+    if form[0] == "word":
+        return source.choice([("text",), ("word", form[1] + ("r",)), ("word", form[1][1:] or form[1])])
+    if form[0] == "list":
+        low = source.randint(0, form[2])
+        return ("list", source.choice([form[1]] * 4 + names), low, source.choice([form[3], None, 4]))
+    if form[0] == "record":
+        return ("record", source.choice((form[1], not form[1])), other_lines(source, names, form[2]))
+    if form[0] == "tagged":
+        records = [other for other in names if forms[other][0] == "record" and form[1] not in [row[0] for row in forms[other][2]]]
+        told = dict(form[2])
+        if records:
+            told[source.choice("pqr")] = source.choice(records)
+        return ("tagged", source.choice([form[1]] * 5 + ["j"]), tuple(told.items()))
+    if form[0] == "either":
+        return ("either", other_members(source, names, name, form[1]))
+    return source.choice([form, ("text",), ("bool",)])
+
+
+def other_lines(source, names, lines):
+    told = {row[0]: row for row in lines}
+    if told and source.random() < 0.5:
+        field = source.choice(sorted(told))
+        told[field] = (field, source.choice([told[field][1]] * 3 + names), source.choice((False, told[field][2])))
+    elif source.random() < 0.7:
+        told["z"] = ("z", source.choice(names), source.random() < 0.2)
+    return tuple(told.values())
+
+
+def other_members(source, names, name, members):
+    told = list(members)
+    # Members that stand behind it in the alphabet lead to no ring.
+    further = [other for other in names if other not in told and (other not in "uvw" or other > name)]
+    if further and source.random() < 0.6:
+        told.insert(source.randint(0, len(told)), source.choice(further))
+    else:
+        source.shuffle(told)
+    return tuple(told)
+
+
+def road(forms, reading):
+    told = []
+    while forms[reading[0]][0] in ("either", "tagged"):
+        told.append(reading[1])
+        if forms[reading[0]][0] == "tagged":
+            break
+        reading = reading[2]
+    return tuple(told)
+
+
+def road_places(forms, name, told):
+    numbers = []
+    for member in told:
+        form = forms[name]
+        numbers.append([word for word, _ in form[2]].index(member) if form[0] == "tagged" else form[1].index(member))
+        name = member
+    return numbers
+
+
+def fillings(forms, known, pool):
+    """All records with the known fields, and further ones with documents of the pool."""
+    further = [field for field in names_of_fields(forms) if field not in known]
+    # What stands in a field that no line names is not looked at by any kind.
+    pools = [[None] if field == "other" else pool for field in further]
+    for row in itertools.product(*[[()] + [(document,) for document in told] for told in pools]):
+        yield {**known, **{field: told[0] for field, told in zip(further, row) if told}}
+
+
+def roads(forms, kind, known, pool):
+    """A dict from all roads to the sets of the fields that all of their fillings have."""
+    told = {}
+    for document in fillings(forms, known, pool):
+        reading = first(forms, kind, document)
+        if reading is not None:
+            further = set(document) - set(known)
+            told[road(forms, reading)] = told.get(road(forms, reading), further) & further
+    return told
+
+
+def done(forms, change):
+    """The forms with a change done, None if it cannot be done."""
+    form = forms.get(change[1])
+    if form is None:
+        return None
+    if change[0] == "close" and form[:2] == ("record", True):
+        return {**forms, change[1]: ("record", False, form[2])}
+    if change[0] == "want" and form[0] == "record" and [row for row in form[2] if row[0] == change[2] and not row[2]]:
+        return {**forms, change[1]: form[:2] + (tuple(row[:2] + (row[2] or row[0] == change[2],) for row in form[2]),)}
+    if change[0] == "ahead" and form[0] == "either" and change[2] in form[1][1:]:
+        return {**forms, change[1]: ("either", tuple(sorted(form[1], key=lambda member: member != change[2])))}
+    if change[0] == "drop" and form[0] == "either" and change[2] in form[1] and len(form[1]) > 2:
+        return {**forms, change[1]: ("either", tuple(member for member in form[1] if member != change[2]))}
+    return None
+
+
+def all_changes(forms):
+    """All changes that can be done."""
+    told = []
+    for name, form in forms.items():
+        told.append(("close", name))
+        if form[0] == "record":
+            told += [("want", name, row[0]) for row in form[2]]
+        if form[0] == "either":
+            told += [(word, name, member) for word in ("ahead", "drop") for member in form[1]]
+    return sorted(change for change in told if done(forms, change) is not None)
+
+
+def choices(forms, offers):
+    """Rows (price, changes, forms) of all choices, in sequence."""
+    told = []
+    for many in range(len(offers) + 1):
+        for rows in itertools.combinations(offers, many):
+            now = forms
+            for change, _ in rows:
+                now = now and done(now, change)
+            if now:
+                told.append((sum(price for _, price in rows), tuple(change for change, _ in rows), now))
+    return sorted(told, key=lambda row: row[:2])
+
+
+def shows_repaired(forms, offers, value, shown):
+    """shown(forms, value): whether a value shows that the kind is so ("so"), that it is not ("not"), or nothing."""
+    rows = choices(forms, offers)
+    if is_tuple(value, 2) and same(value[0], "none"):
+        at, reasons = len(rows), value[1]
+    elif is_tuple(value, 5) and same(value[0], "choice"):
+        found = [at for at, row in enumerate(rows) if same(row[:2], value[1:3])]
+        if not found or shown(rows[found[0]][2], value[3]) != "so":
+            return False
+        at, reasons = found[0], value[4]
+    else:
+        return False
+    if not is_tuple(reasons, at) or not all(is_tuple(row, 2) for row in reasons):
+        return False
+    return all(same(told[0], row[1]) and shown(row[2], told[1]) == "not" for told, row in zip(reasons, rows))
+
+
 # Values with one thing otherwise.
 
 ODD = [None, True, False, 0, 1, 2, -1, "", "a", "any", "written", "x", "p", (), [], {}, (0,), ("a",), {"x": 1}]

@@ -166,7 +166,7 @@ isprintable""".split())
 
 CHANGING = set("append clear extend insert pop remove reverse setdefault update sort add discard".split())
 
-OPERATORS = set("""contains getitem setitem or and xor add sub mul floordiv mod pow lshift rshift radd rsub rrshift lt le
+OPERATORS = set("""contains getitem or and xor add sub mul floordiv mod pow lshift rshift radd rsub rrshift lt le
 gt ge ne neg pos invert abs bool eq len str repr""".split())
 
 AT_ONCE = {"list", "tuple", "dict", "sorted", "sum", "any", "all", "enumerate", "zip", "bytes", "min", "max", "join"}
