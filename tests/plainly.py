@@ -669,7 +669,7 @@ def other_forms(source, forms):
         told[name] = other_form(source, told, name)
     if source.random() < 0.1:
         gone = source.choice(sorted(told))
-        told = mended({name: form for name, form in told.items() if name != gone})
+        told = mended({name: form for name, form in told.items() if name != gone}) or told
     return told
 
 
@@ -679,7 +679,8 @@ def other_form(source, forms, name):
     if form[0] == "int":
         return ("int", form[1] - source.choice((0, 0, 1)), form[2] + source.choice((0, 1)))
     if form[0] == "word":
-        return source.choice([("text",), ("word", form[1] + ("r",)), ("word", form[1][1:] or form[1])])
+        more = form[1] if "r" in form[1] else form[1] + ("r",)
+        return source.choice([("text",), ("word", more), ("word", form[1][1:] or form[1])])
     if form[0] == "list":
         low = source.randint(0, form[2])
         return ("list", source.choice([form[1]] * 4 + names), low, source.choice([form[3], None, 4]))
