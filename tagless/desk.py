@@ -16,6 +16,21 @@ from tagless.writing import inner_readings
 
 DEEDS = ("put", "lay", "pass_on", "take")
 
+# What the words of a question have to be behind the first one.
+ASKED = {
+    "show": ("number",),
+    "read": ("number",),
+    "fits": ("name", "document"),
+    "many": ("name", "document"),
+    "pass": ("name", "document"),
+    "single": ("name",),
+    "back": ("name",),
+    "steady": ("name",),
+    "orders": ("name",),
+    "lot": ("document",),
+    "places": ("name", "name"),
+}
+
 
 class Desk:
     """A shelf by its journal, and lines that are said to it."""
@@ -33,7 +48,7 @@ class Desk:
         word, told = line_read(line)
         if word in DEEDS:
             return deed_answer(word, done_on(self._held, word, told))
-        _, answer = ANSWERS[word]
+        answer = ANSWERS[word]
         return answer(self._held, told)
 
 
@@ -162,21 +177,20 @@ def places_answer(shelf, told):
     return words_or_none([str(place) for place in places(newest(shelf), told[0], told[1])])
 
 
-# What the words of a line have to be behind the first one, and what answers it.
 ANSWERS = {
-    "undo": ((), undo_answer),
-    "redo": ((), redo_answer),
-    "show": (("number",), show_answer),
-    "read": (("number",), read_answer),
-    "fits": (("name", "document"), fits_answer),
-    "many": (("name", "document"), many_answer),
-    "pass": (("name", "document"), pass_answer),
-    "single": (("name",), single_answer),
-    "back": (("name",), back_answer),
-    "steady": (("name",), steady_answer),
-    "orders": (("name",), orders_answer),
-    "lot": (("document",), lot_answer),
-    "places": (("name", "name"), places_answer),
+    "undo": undo_answer,
+    "redo": redo_answer,
+    "show": show_answer,
+    "read": read_answer,
+    "fits": fits_answer,
+    "many": many_answer,
+    "pass": pass_answer,
+    "single": single_answer,
+    "back": back_answer,
+    "steady": steady_answer,
+    "orders": orders_answer,
+    "lot": lot_answer,
+    "places": places_answer,
 }
 
 
@@ -184,12 +198,11 @@ def line_read(line):
     """The first word of a line and a list of what the others tell; BadLine of what is no line."""
     if not isinstance(line, str):
         raise BadLine(line)
+    if line in ("undo", "redo"):
+        return line, []
     word, told = deed_in(line)
-    if word in ANSWERS:
-        sorts, _ = ANSWERS[word]
-        if not sorts and line == word:
-            return word, []
-        told = read_words(line[len(word) + 1:], sorts) if sorts else []
+    if word in ASKED:
+        told = read_words(line[len(word) + 1:], ASKED[word])
     if not told:
         raise BadLine(line)
     return word, told

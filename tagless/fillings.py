@@ -23,8 +23,7 @@ def filled_ends(groups, documents):
         start = start & known_number(plan, field, document)
     ends = {start: 0}
     for at, choices in enumerate(groups.choices):
-        # The last name stands for all that the book does not name, so further ones of these can always come.
-        if plan.asked[at] not in documents or at + 1 == len(groups.choices):
+        if plan.asked[at] not in documents:
             ends = further_ends(ends, choices, 1 << at)
     return ends
 
@@ -34,7 +33,7 @@ def further_ends(ends, choices, bit):
     further = {}
     for whole, bits in ends.items():
         for number, (_, made) in choices.items():
-            told = bits | bit if made else bits
+            told = (bits | bit) if made else bits
             joined = whole & number
             # What fits nothing so far will not fit anything.
             if joined != 0:

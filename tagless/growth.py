@@ -30,7 +30,7 @@ def pairs_asked(tables, sizes):
     empties = [whole_pair(name) for name in tables[0] if whole_pair(name) not in sizes]
     pairs = list(empties)
     for name, form in tables[0].items():
-        if form[0] == "either" and whole_pair(name) not in empties:
+        if form[0] == "either":
             for member in [member for member in form[1] if whole_pair(member) not in empties]:
                 pairs.extend([tried_pair(member, other) for other in are_ahead(tables[1][name], member)])
     return pairs

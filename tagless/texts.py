@@ -101,7 +101,7 @@ def leaves_in(token):
     if token in WORDS:
         return [WORDS[token]]
     digits = token[1:] if token.startswith("-") else token
-    return [int(token)] if digits and all([digit in DIGITS for digit in digits]) else []
+    return [int(token)] if all([digit in DIGITS for digit in digits]) else []
 
 
 def wholes_in(frame, token):
@@ -127,10 +127,10 @@ def read_loosely(text):
             found = [token]
         else:
             found = leaves_in(token)
-        if not found or not frames:
+        if not found:
             return []
         frames[-1].extend(found)
-    return frames[0][1:] if len(frames) == 1 else []
+    return frames[0][1:]
 
 
 def documents_in(text):

@@ -8,7 +8,7 @@ class Frame:
         self.outer = outer
         self.done = done
         self.undone = undone
-        self.kept = False
+        self.kept = None
 
 
 class Trial:
@@ -23,7 +23,7 @@ class Trial:
         return held
 
     def __exit__(self, kind, value, trace):
-        if kind is not None or not self._held._frame.kept:
+        if kind is not None or self._held._frame.kept is None:
             self._held._done = self._held._frame.done
             self._held._undone = self._held._frame.undone
         self._held._frame = self._held._frame.outer

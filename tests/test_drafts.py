@@ -245,6 +245,14 @@ class TestRoads(Asking):
         book = Book("none n\nrecord r\n  x n\ntagged h k\n  two r\n  four r\ntagged g k\n  one r\n  two r\neither u h g")
         self.same(Draft(book, "u").roads(), (("h", "two"), ("h", "four"), ("g", "one")))
 
+    def test_words_in_their_sequence(self):
+        book = Book("none n\nbool o\nrecord r\n  x n\nrecord s\n  x o\ntagged h k\n  two s\n  three s\n  one s\n"
+                    "tagged g k\n  one r\n  two r\neither u g h")
+        right = (("g", "one"), ("g", "two"), ("h", "two"), ("h", "three"), ("h", "one"))
+        self.same(Draft(book, "u").roads(), right)
+        book = Book(book.text.replace("u g h", "u h g"))
+        self.same(Draft(book, "u").roads(), right[2:] + right[:2])
+
     def test_some_further_field_must_come(self):
         book = Book("int n 0 9\nrecord p\n  x n\nrecord q open\n  x n\neither u p q")
         draft = draft_of(book, "u", {"x": 1})

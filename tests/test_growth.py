@@ -304,6 +304,67 @@ class TestShows(Asking):
         newer = Book("none n\nlist l n 0 0\nlist k n 1 4\nlist h k 1 1")
         self.assertIs(shows_keeps(elder, newer, ("keeps", (empty[0],))), False)
 
+    def all_apart(self, forms, others):
+        """All pairs that are apart, of all sides of both books: no closed tuple has others."""
+        both = plainly.beside(forms, others)
+        known = {plainly.pair(one, other) for one in plainly.all_sides(both) for other in plainly.all_sides(both)}
+        gone = {None}
+        while gone:
+            gone = {two for two in known if not plainly.apart_by(both, two, known)}
+            known -= gone
+        return tuple(sorted(tuple(self.of_one(side) for side in two) for two in known))
+
+    def of_one(self, side):
+        return (1, side[1][1:]) + side[2:] if side[1].startswith(plainly.NEWER) else side
+
+    def test_with_all_pairs_that_are_apart(self):
+        """Evidence that has all that evidence can have shows just what is so."""
+        source = random.Random(144)
+        seen = {"keeps": 0, "breaks": 0}
+        rows = []
+        for _ in range(150):
+            forms = plainly.some_forms(source)
+            others = plainly.other_forms(source, forms)
+            if len(forms) + len(others) < 22:
+                rows.append((forms, others))
+        base = {"n": ("int", 0, 1), "f": ("record", False, (("x", "f", True),)), "z": ("none",)}
+        for one, other in ((("list", "n", 0, 3), ("list", "n", 0, 2)), (("list", "n", 0, None), ("list", "n", 0, 4)),
+                           (("list", "n", 0, 3), ("list", "n", 0, 3)), (("list", "n", 0, 3), ("list", "n", 0, None)),
+                           (("list", "n", 0, 3), ("list", "n", 1, 3)), (("list", "n", 0, 3), ("list", "z", 0, 3)),
+                           (("list", "n", 0, 0), ("list", "z", 0, 3)), (("list", "f", 0, 4), ("list", "z", 0, 0)),
+                           (("tagged", "k", (("p", "r"),)), ("tagged", "q", (("p", "r"),))),
+                           (("tagged", "k", (("p", "r"),)), ("tagged", "k", (("p", "s"),))),
+                           (("tagged", "k", (("p", "r"), ("q", "f"))), ("tagged", "k", (("p", "r"), ("q", "s")))),
+                           (("record", False, (("x", "n", False),)), ("record", True, (("x", "n", False), ("y", "n", False)))),
+                           (("record", False, (("x", "n", False),)), ("record", False, ())), (("either", ("f", "g")), ("either", ("g", "f"))),
+                           (("record", False, (("x", "f", False),)), ("record", False, (("x", "n", False),))),
+                           (("record", False, ()), ("record", False, (("x", "f", True),))),
+                           (("record", False, (("x", "n", False),)), ("record", False, (("x", "n", True),))),
+                           (("either", ("n", "z")), ("either", ("z", "r"))), (("either", ("n", "z")), ("either", ("n", "r"))),
+                           (("either", ("n", "z")), ("either", ("z", "r", "n"))), (("either", ("n", "z")), ("either", ("z", "m", "n"))),
+                           (("list", "n", 0, 1), ("record", False, ())), (("none",), ("list", "n", 0, 1)), (("list", "n", 0, 1), ("none",)),
+                           (("tagged", "k", (("p", "r"),)), ("record", False, ())), (("either", ("n", "z")), ("none",)),
+                           (("bool",), ("text",)), (("word", ("p",)), ("text",))):
+            more = {"g": ("record", False, (("x", "f", True),)), "r": ("record", False, (("x", "n", True),)),
+                    "s": ("record", False, (("x", "n", False),)), "m": ("int", 1, 1)}
+            rows.append(({**base, **more, "a": one}, {**base, **more, "a": other}))
+            rows.append(({**base, **more, "a": one}, {**base, **more, "b": other}))
+        for forms, others in rows:
+            elder, newer = book_of(forms), book_of(others)
+            told = keeps(elder, newer)[0]
+            seen[told] += 1
+            value = ("keeps", self.all_apart(forms, others))
+            self.assertIs(plainly.shows_keeps(forms, others, value), told == "keeps", (forms, others))
+            self.assertIs(shows_keeps(elder, newer, value), told == "keeps", (forms, others))
+        self.assertGreater(min(seen.values()), 15, seen)
+
+    def test_empty_eithers_that_are_no_more(self):
+        elder = Book("none n\nrecord f\n  x f\nlist l f 1 1\neither u f l\ntagged g k\n  a f")
+        told = keeps(elder, Book("none n"))
+        self.same(told, ("keeps", tuple(sorted([((0, "", "any", ""), (0, name, "any", "")) for name in "fgul"]
+                                               + [((0, "", "any", ""), (0, "g", "any", "a"))]))))
+        self.assertIs(shows_keeps(elder, Book("none n"), told), True)
+
     def test_one_thing_otherwise(self):
         source = random.Random(143)
         seen = {True: 0, False: 0}
