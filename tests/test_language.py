@@ -275,6 +275,26 @@ class TestCalls(unittest.TestCase):
                     right = called(outer) in {"sorted", "len"} or isinstance(outer, ast.Compare) and node in outer.comparators
                     self.assertTrue(right, (path, node.lineno))
 
+    def test_what_leaves_a_block(self):
+        found = [node for _, node in functions() if node.name == "__exit__"]
+        self.assertEqual(len(found), 1)
+        for node in ast.walk(found[0]):
+            if isinstance(node, ast.Call):
+                self.fail(node.lineno)
+            if isinstance(node, ast.Compare):
+                self.assertIsInstance(node.ops[0], (ast.Is, ast.IsNot))
+            if isinstance(node, ast.stmt) and node is not found[0]:
+                self.assertIsInstance(node, (ast.If, ast.Assign))
+            if isinstance(node, ast.Name):
+                self.assertIn(node.id, ("self", "kind"))
+
+    def test_tables_of_functions(self):
+        """What stands in a table is assigned to a name before it is called."""
+        for path, node in nodes(ast.Call):
+            self.assertIsInstance(node.func, (ast.Name, ast.Attribute), (path, node.lineno))
+            if isinstance(node.func, ast.Attribute) and isinstance(node.func.value, ast.Constant):
+                self.assertEqual(node.func.attr, "join", (path, node.lineno))
+
     def test_library(self):
         for path, node in nodes(ast.ImportFrom):
             if node.module in LIBRARY:
