@@ -54,9 +54,11 @@ class Shelf:
         self._frame = None
 
     def _now(self):
+        """The stock that is on it now."""
         return self._done[-1][1] if self._done else self._start
 
     def _do(self, deed, stock):
+        """A deed, by which this stock is on it; what was taken back cannot be done again."""
         self._done = self._done + ((deed, stock),)
         self._undone = ()
 

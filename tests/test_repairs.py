@@ -290,10 +290,11 @@ class TestShows(Asking):
             eithers = [name for name in forms if forms[name][0] == "either"]
             if not able or not eithers:
                 continue
-            book, kind, wish = book_of(forms), source.choice(eithers), source.choice(("one", "back"))
+            book, kind, wish = book_of(forms), source.choice(eithers), source.choice(("one", "back", "steady"))
             changes = sorted(source.sample(able, min(len(able), source.randint(1, 3))))
             offers = tuple((change, source.randint(1, 3)) for change in changes)
             told = repaired(book, kind, offers, wish=wish)
+            self.marks = {}
             for _ in range(12):
                 value = plainly.otherwise(source, told)
                 right = plainly.shows_repaired(forms, offers, value, lambda now, answer: self.shown(now, kind, wish, answer))
@@ -302,6 +303,11 @@ class TestShows(Asking):
         self.assertGreater(min(seen.values()), 50, seen)
 
     def shown(self, forms, kind, wish, answer):
+        if wish == "steady":
+            key = repr(forms)
+            self.marks[key] = self.marks.get(key) or [row[0] for row in ways(book_of(forms))]
+            right = plainly.shows_steady(forms, kind, answer, self.marks[key])
+            return ("so" if answer[0] == wish else "not") if right else ""
         shows = plainly.shows_single if wish == "one" else plainly.shows_back
         return ("so" if answer[0] == wish else "not") if shows(forms, kind, answer) else ""
 
